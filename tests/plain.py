@@ -1,0 +1,88 @@
+"""What the document defines, written down anew by trying everything, to test the program against."""
+
+import random
+from itertools import combinations
+
+ABC = ("a", "b", "c")
+ABCD = ("a", "b", "c", "d")
+TEN = tuple("abcdefghij")
+
+
+def nested(depth):
+    value = []
+    for _ in range(depth - 1):
+        value = [value]
+    return value
+
+
+def any_values():
+    """Values of many kinds, none of which is a lot, a rule, an index, or a list or tuple of some."""
+    return [
+        True, False, None, -1, -2, 10 ** 39, -10 ** 39, "", "a", "ab", "A", "0", b"a", b"",
+        [None], ["a"], [["a"]], [[], []], [(("a",), ("b",), ("c",))], [1], [True], ["a", "b"], [()],
+        (1,), (True,), (None,), ("A",), ("",), ("abcdefghi",), ("b", "a"), ("a", "a"), (("a",),), (["a"], ["b"]),
+        {}, {"a": "b"}, {"a": ["b"]}, {1: 2}, {(): ()}, {"a"}, frozenset(), range(2), slice(0, 1),
+        object(), ValueError, ValueError("a"), len, any_values, nested(16), ["a"] * 1999, ("a",) * 1999,
+    ]
+
+
+def lots_within(marks):
+    """All lots within a lot of marks, in order."""
+    return [lot for many in range(len(marks) + 1) for lot in combinations(marks, many)]
+
+
+def rules_of(marks):
+    """All rules of some marks, in order."""
+    return [(ahead, behind) for ahead in lots_within(marks) for behind in lots_within(marks)]
+
+
+def keeps(lot, rule):
+    return not set(rule[0]) <= set(lot) or set(rule[1]) <= set(lot)
+
+
+def closed_by_rows(marks, rows):
+    return [lot for lot in lots_within(marks) if all(keeps(lot, row) for row in rows)]
+
+
+def closing_by_rows(marks, rows, lot):
+    """The closed lot that holds a lot and is within each closed lot that holds it."""
+    holding = [other for other in closed_by_rows(marks, rows) if set(lot) <= set(other)]
+    return [one for one in holding if all(set(one) <= set(other) for other in holding)][0]
+
+
+def closing_by_table(marks, lots, lot):
+    holding = [other for other in lots if set(lot) <= set(other)]
+    return tuple(mark for mark in marks if all(mark in other for other in holding))
+
+
+def closing_by(theory, lot):
+    """The closing of a lot by a Rules or a Table, by what it lists."""
+    if hasattr(theory, "rows"):
+        return closing_by_rows(theory.marks, theory.rows(), lot)
+    return closing_by_table(theory.marks, theory.lots(), lot)
+
+
+def some_lot(chance, marks):
+    return tuple(mark for mark in marks if chance.random() < 0.4)
+
+
+def some_rows(chance, marks, many):
+    return [(some_lot(chance, marks), some_lot(chance, marks)) for _ in range(many)]
+
+
+def row_lists():
+    """Pairs of marks and a list of rows: small ones, drawn once for all."""
+    chance = random.Random(20)
+    drawn = [((), []), ((), [((), ())]), (("a",), []), (ABC, []), (ABC, [((), ())]), (ABC, [((), ("b",))])]
+    for marks in [("a", "b"), ABC, ABCD, ("a", "ab", "abc", "b", "ba")]:
+        drawn += [(marks, some_rows(chance, marks, many)) for many in (1, 2, 3, 4, 6)]
+    return drawn
+
+
+def lot_lists():
+    """Pairs of marks and a list of lots: small ones, drawn once for all."""
+    chance = random.Random(32)
+    drawn = [((), []), ((), [()]), (("a",), []), (ABC, []), (ABC, [()]), (ABC, [ABC]), (ABC, [("b",), ("b",)])]
+    for marks in [("a", "b"), ABC, ABCD, ("a", "ab", "abc", "b", "ba")]:
+        drawn += [(marks, [some_lot(chance, marks) for _ in range(many)]) for many in (1, 2, 3, 4, 6)]
+    return drawn

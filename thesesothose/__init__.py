@@ -1,0 +1,1 @@
+"""Thesesothose: rules such as "whoever has these has those", led by answers."""
