@@ -16,11 +16,11 @@ def nested(depth):
 
 
 def any_values():
-    """Values of many kinds, none of which is a lot, a rule, an index, or a list or tuple of some."""
+    """Values of many kinds, none of which is a lot, a rule, an index from 0 on, or a list or a tuple of some."""
     return [
         True, False, None, -1, -2, 10 ** 39, -10 ** 39, "", "a", "ab", "A", "0", b"a", b"",
-        [None], ["a"], [["a"]], [[], []], [(("a",), ("b",), ("c",))], [1], [True], ["a", "b"], [()],
-        (1,), (True,), (None,), ("A",), ("",), ("abcdefghi",), ("b", "a"), ("a", "a"), (("a",),), (["a"], ["b"]),
+        [None], ["a"], [["a"]], [[], []], [(("a",), ("b",), ("c",))], ["1"], [True], ["a", "b"], [[()]],
+        (1,), (True,), (None,), ("A",), ("",), ("abcdefghi",), ("b", "a"), ("a", "a"), ((("a",),),), (["a"], ["b"]),
         {}, {"a": "b"}, {"a": ["b"]}, {1: 2}, {(): ()}, {"a"}, frozenset(), range(2), slice(0, 1),
         object(), ValueError, ValueError("a"), len, any_values, nested(16), ["a"] * 1999, ("a",) * 1999,
     ]

@@ -19,11 +19,40 @@ OF_22 = """
 OF_26 = """
 >>> from thesesothose.rules import Rules
 >>> from thesesothose.closing import broken, follows, gained
+>>> from thesesothose.deriving import against, derivation, is_derivation, shortest
 >>> rules = Rules(("a", "b", "c", "d"), [(("b",), ("c",)), (("a",), ("b",)), (("c",), ("d",)), (("a",), ("c",))])
 >>> [gained(rules, ("a",)), broken(rules, ("a",))]
 [[(1, ('a', 'b')), (3, ('a', 'b', 'c')), (2, ('a', 'b', 'c', 'd'))], [1, 3]]
->>> follows(rules, (("b",), ("d",)))
-True
+>>> [derivation(rules, (("a",), ("d",))), shortest(rules, (("a",), ("d",))), is_derivation(rules, (("a",), ("d",)), [2, 3])]
+[[1, 3, 2], [3, 2], False]
+>>> [follows(rules, (("b",), ("d",))), against(rules, (("b",), ("a",)))]
+[True, ('b', 'c', 'd')]
+"""
+
+OF_32 = """
+>>> from thesesothose.closed import closed_lots, count, narrow, next_ones
+>>> from thesesothose.tables import Table, table_of
+>>> table = Table(("a", "b", "c"), [("a", "b"), ("b", "c"), ("b",), ("a", "b")])
+>>> [table(()), table(("a",)), table(("a", "c")), table.keeps((("c",), ("b",))), ("a", "b") in table]
+[('b',), ('a', 'b'), ('a', 'b', 'c'), True, True]
+>>> [closed_lots(table), narrow(table)]
+[[('b',), ('a', 'b'), ('b', 'c'), ('a', 'b', 'c')], [(('a', 'b'), ('a', 'b', 'c')), (('b', 'c'), ('a', 'b', 'c'))]]
+>>> [next_ones(table, ("b",)), count(table), table_of(table).lots(), table.cut(("a",)).lots()]
+[[('a', 'b'), ('b', 'c')], 4, [('a', 'b'), ('b', 'c')], [('a',), (), (), ('a',)]]
+"""
+
+# Without what leftsides.py brings.
+OF_42 = """
+>>> from thesesothose.apart import are_apart, is_bound, shared_rule
+>>> from thesesothose.leastlist import least_list, needers, needy_lots
+>>> from thesesothose.rules import Rules
+>>> some = Rules(("a", "b", "c", "d"), [(("a",), ("b",)), (("b", "c"), ("d",)), (("a", "c"), ("b", "d"))])
+>>> [least_list(some).rows(), needers(some, some)]
+[[(('a',), ('b',)), (('b', 'c'), ('d',))], {('a',): [0], ('b', 'c'): [1]}]
+>>> [needy_lots(some, known=Rules(("a", "b", "c", "d"), [(("a",), ("b",))])), is_bound(some, [("a",), ("b", "c")])]
+[[('b', 'c')], True]
+>>> [are_apart(some, ("a",), ("a", "c")), shared_rule(some, ("a",), ("a", "c"))]
+[False, (('a',), ('a', 'b'))]
 """
 
 
@@ -42,6 +71,12 @@ class TestExamples(unittest.TestCase):
 
     def test_of_26(self):
         self.shown(OF_26)
+
+    def test_of_32(self):
+        self.shown(OF_32)
+
+    def test_of_42(self):
+        self.shown(OF_42)
 
 
 if __name__ == "__main__":

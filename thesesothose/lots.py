@@ -50,3 +50,12 @@ def common(one, other):
 def without(one, other):
     """The lot of the marks that stand in the first one alone."""
     return tuple([mark for mark in one if mark not in other])
+
+
+def least_of(lots):
+    """The list, in order, of the different lots of a list that no other one of it is strictly within."""
+    least = []
+    for lot in in_order(lots):
+        if not any([within(other, lot) for other in least]):
+            least.append(lot)
+    return least

@@ -25,3 +25,12 @@ def closed_by_rows(pairs, mask):
                 reached = reached | behind
         grows = reached != before
     return reached
+
+
+def closed_by_lots(masks, everything, mask):
+    """What all those masks have in common which a mask is within, or everything if there is none."""
+    reached = everything
+    for other in masks:
+        if mask & other == mask:
+            reached = reached & other
+    return reached

@@ -89,4 +89,4 @@ class Rules:
         return self.with_rows([other])
 
     def __or__(self, other):
-        return Rules(joined(self._marks, other.marks), self._rows + other.rows())
+        return Rules(joined(self._marks, other._marks), [*self._rows, *other._rows])
