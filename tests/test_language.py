@@ -17,6 +17,7 @@ METHODS = """append clear copy count endswith extend find get index insert isaln
     items join keys ljust lower lstrip partition pop remove replace reverse rfind rjust rpartition rsplit rstrip
     setdefault split splitlines startswith strip update upper values zfill bit_length isascii add discard""".split()
 OPERATORS = """__init__ __eq__ __len__ __iter__ __contains__ __getitem__ __setitem__ __call__ __add__ __or__""".split()
+CHANGING = "append clear extend insert pop remove reverse setdefault sort update add discard".split()
 WORDS = ["type", "typing", "enum", "Enum", "Meta", "_wall", "dataclass", "overload", "contextmanager"]
 
 
@@ -26,6 +27,48 @@ def trees():
 
 def nodes(kind):
     return [(name, node) for name, tree in trees() for node in ast.walk(tree) if isinstance(node, kind)]
+
+
+def names_in(node):
+    """The names that a value may be: the name itself, an attribute's, or those of a choice or of what is gone over."""
+    if isinstance(node, ast.Name):
+        return {node.id}
+    if isinstance(node, ast.Attribute):
+        return {node.attr}
+    if isinstance(node, ast.IfExp):
+        return names_in(node.body) | names_in(node.orelse)
+    if isinstance(node, ast.BoolOp):
+        return set().union(*[names_in(part) for part in node.values])
+    if isinstance(node, ast.Call) and isinstance(node.func, ast.Attribute) and node.func.attr in ("items", "values"):
+        return names_in(node.func.value)
+    if isinstance(node, ast.Call) and getattr(node.func, "id", "") in ("enumerate", "zip", "reversed"):
+        return set().union(*[names_in(part) for part in node.args])
+    return set()
+
+
+def with_other_names(names, function):
+    """The names, and all that stand for the same by a plain assignment in the function, whatever its place."""
+    pairs = [(names_in(target), names_in(node.value)) for node in ast.walk(function) if isinstance(node, ast.Assign)
+             for target in node.targets]
+    known = set(names)
+    while any((one & known) and not two <= known or (two & known) and not one <= known for one, two in pairs):
+        for one, two in pairs:
+            if (one | two) & known and one and two:
+                known |= one | two
+    return known
+
+
+def changed_in(rows):
+    """The names of what is changed in some rows."""
+    names = set()
+    for node in [part for row in rows for part in ast.walk(row)]:
+        if isinstance(node, ast.Call) and isinstance(node.func, ast.Attribute) and node.func.attr in CHANGING:
+            names |= names_in(node.func.value)
+        if isinstance(node, ast.Subscript) and not isinstance(node.ctx, ast.Load):
+            names |= names_in(node.value)
+        if isinstance(node, ast.AugAssign):
+            names |= names_in(node.target)
+    return names
 
 
 class TestLanguage(unittest.TestCase):
@@ -108,6 +151,12 @@ class TestLanguage(unittest.TestCase):
         for name, node in nodes(ast.Call):
             if isinstance(node.func, ast.Attribute):
                 self.assertIn(node.func.attr, METHODS + own, f"{name} {node.lineno}")
+
+    def test_what_a_loop_walks_is_not_changed_in_it(self):  # L5, L23
+        for name, function in nodes(ast.FunctionDef):
+            for loop in [node for node in ast.walk(function) if isinstance(node, ast.For)]:
+                walked = with_other_names(names_in(loop.iter), function)
+                self.assertEqual(walked & changed_in(loop.body), set(), f"{name} {loop.lineno}")
 
     def test_names_are_bound_once(self):  # L15, L18
         for _, node in nodes((ast.Module, ast.ClassDef)):

@@ -32,13 +32,12 @@ def shortest(rules, rule):
         for lot in latest:
             if within(behind, lot):
                 return lists[lot]
-        found = []
-        for lot in latest:
-            for index, grown in _grown_by_one_row(rules, lot):
-                if grown not in lists:
-                    lists[grown] = [*lists[lot], index]
-                    found.append(grown)
-        latest = found
+        found = [(grown, [*lists[lot], index]) for lot in latest for index, grown in _grown_by_one_row(rules, lot)]
+        latest = []
+        for grown, indexes in found:
+            if grown not in lists:
+                lists[grown] = indexes
+                latest.append(grown)
     return None
 
 
