@@ -86,3 +86,36 @@ def lot_lists():
     for marks in [("a", "b"), ABC, ABCD, ("a", "ab", "abc", "b", "ba")]:
         drawn += [(marks, [some_lot(chance, marks) for _ in range(many)]) for many in (1, 2, 3, 4, 6)]
     return drawn
+
+
+def fits(lot, thing):
+    return set(thing[0]) <= set(lot) and not set(thing[1]) & set(lot)
+
+
+def things_of(marks):
+    """All things of some marks, in order."""
+    return [pair for pair in rules_of(marks) if not set(pair[0]) & set(pair[1])]
+
+
+def some_thing(chance, marks):
+    has = some_lot(chance, marks)
+    return (has, tuple(mark for mark in some_lot(chance, marks) if mark not in has))
+
+
+def tables_that_fit(marks, rows, things):
+    """All tables of different lots that fit answers, by trying them all; no others could have lots that break a row."""
+    kept = closed_by_rows(marks, rows)
+    tables = [lots for many in range(len(kept) + 1) for lots in combinations(kept, many)]
+    return [lots for lots in tables if all(any(fits(lot, thing) for lot in lots) for thing in things)]
+
+
+def answers_lists():
+    """Triples of marks, rows and things: small ones, drawn once for all; some do not stand."""
+    chance = random.Random(51)
+    drawn = [((), [], []), ((), [], [((), ())]), (("a",), [], []), (ABC, [], []), (ABC, [], [((), ())]),
+             (ABC, [((), ("a",))], [((), ("a",))]), (ABC, [(("a",), ("b",))], [(("c",), ()), (("a",), ("b", "c"))]),
+             (ABC, [(("a",), ("b",)), (("b",), ("c",))], [(ABC, ()), (ABC, ())])]
+    for marks in [("a", "b"), ABC, ("a", "ab", "b")]:
+        for yeses, many in [(0, 1), (1, 1), (1, 2), (2, 2), (2, 3), (3, 4), (4, 2), (1, 6)]:
+            drawn.append((marks, some_rows(chance, marks, yeses), [some_thing(chance, marks) for _ in range(many)]))
+    return drawn

@@ -41,18 +41,40 @@ OF_32 = """
 [[('a', 'b'), ('b', 'c')], 4, [('a', 'b'), ('b', 'c')], [('a',), (), (), ('a',)]]
 """
 
-# Without what leftsides.py brings.
 OF_42 = """
 >>> from thesesothose.apart import are_apart, is_bound, shared_rule
 >>> from thesesothose.leastlist import least_list, needers, needy_lots
+>>> from thesesothose.leftsides import brought, fewest_ahead, left_sides
 >>> from thesesothose.rules import Rules
 >>> some = Rules(("a", "b", "c", "d"), [(("a",), ("b",)), (("b", "c"), ("d",)), (("a", "c"), ("b", "d"))])
 >>> [least_list(some).rows(), needers(some, some)]
 [[(('a',), ('b',)), (('b', 'c'), ('d',))], {('a',): [0], ('b', 'c'): [1]}]
 >>> [needy_lots(some, known=Rules(("a", "b", "c", "d"), [(("a",), ("b",))])), is_bound(some, [("a",), ("b", "c")])]
 [[('b', 'c')], True]
->>> [are_apart(some, ("a",), ("a", "c")), shared_rule(some, ("a",), ("a", "c"))]
-[False, (('a',), ('a', 'b'))]
+>>> [are_apart(some, ("a",), ("a", "c")), shared_rule(some, ("a",), ("a", "c")), fewest_ahead(some)]
+[False, (('a',), ('a', 'b')), 3]
+>>> [left_sides(some, ("b", "c")), brought(some, some).rows() == least_list(some).rows()]
+[[('b', 'c')], True]
+"""
+
+OF_53 = """
+>>> from thesesothose.rules import Rules
+>>> from thesesothose.answers import Answers
+>>> from thesesothose.papers import failing, holding, is_paper, paper
+>>> from thesesothose.together import barring, can_hold, may, surely_lacks
+>>> told = Answers(Rules(("a", "b", "c", "d"), [(("b", "d"), ("c",))]), [(("a",), ("c",))])
+>>> [told[(("a",), ("b",))], told[(("a",), ("d",))], told[(("a",), ("b", "d"))], told[(("b", "c", "d"), ("c",))]]
+['open', 'open', 'refuted', 'sure']
+>>> paper(told, (("a",), ("b", "d")))
+('refuted', 0, [], [0], 'c')
+>>> [holding(told, (("a",), ("b",))).lots(), failing(told, (("a",), ("b",))).lots()]
+[[('a', 'b')], [('a',), ('a',)]]
+>>> some_rules = [(("a",), ("b",)), (("a",), ("d",)), (("b",), ("a",))]
+>>> [can_hold(told, some_rules[1:]), barring(told, some_rules)]
+[True, [[0, 1]]]
+>>> more = told.with_thing((("b",), ("c",)))
+>>> [surely_lacks(more, 1), may(more, 0, (("b",), ())), may(more, 0, (("b", "d"), ())), len(more.opens()) > 0]
+[('c', 'd'), True, False, True]
 """
 
 
@@ -77,6 +99,9 @@ class TestExamples(unittest.TestCase):
 
     def test_of_42(self):
         self.shown(OF_42)
+
+    def test_of_53(self):
+        self.shown(OF_53)
 
 
 if __name__ == "__main__":

@@ -2,7 +2,7 @@
 
 from thesesothose.errors import NoLot, NoNumber
 from thesesothose.lots import all_lots, joined, least_of, without
-from thesesothose.words import is_integer, is_lot_of
+from thesesothose.words import is_index, is_lot_of
 
 
 def is_closed(theory, thing):
@@ -30,7 +30,7 @@ def number_of(theory, lot):
 def lot_at(theory, number):
     """The closed lot that has an index in the list of all."""
     lots = closed_lots(theory)
-    if not is_integer(number) or not 0 <= number < len(lots):
+    if not is_index(len(lots), number):
         raise NoNumber(number)
     return lots[number]
 

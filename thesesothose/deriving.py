@@ -3,7 +3,7 @@
 from thesesothose.closing import gained
 from thesesothose.lots import joined, within
 from thesesothose.rules import breaks
-from thesesothose.words import is_integer
+from thesesothose.words import is_index
 
 
 def derivation(rules, rule):
@@ -52,7 +52,7 @@ def is_derivation(rules, rule, thing):
     ahead, behind = rule
     reached = ahead
     for index in thing:
-        if not is_integer(index) or not 0 <= index < len(rules):
+        if not is_index(len(rules), index):
             return False
         row = rules[index]
         if not within(row[0], reached):

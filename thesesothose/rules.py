@@ -3,7 +3,7 @@
 from thesesothose.errors import NoRow, Wrong
 from thesesothose.lots import joined, within
 from thesesothose.masks import closed_by_rows, lot_from, mask_of
-from thesesothose.words import is_integer, is_lot, is_rule_of
+from thesesothose.words import is_index, is_lot, is_rule_of
 
 
 def breaks(lot, rule):
@@ -58,12 +58,9 @@ class Rules:
 
     def without(self, index):
         """The Rules without the row that has an index."""
-        if not self._has_row(index):
+        if not is_index(len(self._rows), index):
             raise NoRow(index)
         return Rules(self._marks, self._rows[:index] + self._rows[index + 1:])
-
-    def _has_row(self, index):
-        return is_integer(index) and 0 <= index < len(self._rows)
 
     def __eq__(self, other):
         return isinstance(other, Rules) and self._marks == other._marks and self._rows == other._rows
@@ -78,7 +75,7 @@ class Rules:
         return is_lot(x) and within(x, self._marks) and self.closing(x) == x
 
     def __getitem__(self, at):
-        if not self._has_row(at):
+        if not is_index(len(self._rows), at):
             raise NoRow(at)
         return self._rows[at]
 

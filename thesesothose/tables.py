@@ -5,7 +5,7 @@ from thesesothose.errors import NoRow, Unlike, Wrong
 from thesesothose.lots import common
 from thesesothose.masks import closed_by_lots, lot_from, mask_of
 from thesesothose.rules import breaks
-from thesesothose.words import is_integer, is_lot, is_lot_of
+from thesesothose.words import is_index, is_lot, is_lot_of
 
 
 def are_lots_of(marks, lots):
@@ -49,7 +49,7 @@ class Table:
 
     def without(self, index):
         """The Table without the lot that has an index."""
-        if not is_integer(index) or not 0 <= index < len(self._lots):
+        if not is_index(len(self._lots), index):
             raise NoRow(index)
         return Table(self._marks, self._lots[:index] + self._lots[index + 1:])
 

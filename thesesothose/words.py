@@ -9,6 +9,11 @@ def is_integer(thing):
     return isinstance(thing, int) and not isinstance(thing, bool)
 
 
+def is_index(many, thing):
+    """Whether a thing, any value, is an index of a list with so many items."""
+    return is_integer(thing) and 0 <= thing < many
+
+
 def is_mark(thing):
     if not isinstance(thing, str) or not 1 <= len(thing) <= MOST_LETTERS:
         return False
@@ -40,3 +45,8 @@ def is_lot_of(marks, thing):
 def is_rule_of(marks, thing):
     """Whether a thing, any value, is a rule of the marks."""
     return is_rule(thing) and within(thing[0], marks) and within(thing[1], marks)
+
+
+def is_thing_of(marks, thing):
+    """Whether a thing, any value, is a thing, told in part, of the marks."""
+    return is_thing(thing) and is_rule_of(marks, thing)
