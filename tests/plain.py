@@ -1,6 +1,7 @@
 """What the document defines, written down anew by trying everything, to test the program against."""
 
 import random
+from functools import lru_cache
 from itertools import combinations
 
 ABC = ("a", "b", "c")
@@ -46,6 +47,11 @@ def closed_by_rows(marks, rows):
 
 def closing_by_rows(marks, rows, lot):
     """The closed lot that holds a lot and is within each closed lot that holds it."""
+    return _closing_by_rows(marks, tuple(rows), lot)
+
+
+@lru_cache(maxsize=None)
+def _closing_by_rows(marks, rows, lot):
     holding = [other for other in closed_by_rows(marks, rows) if set(lot) <= set(other)]
     return [one for one in holding if all(set(one) <= set(other) for other in holding)][0]
 
@@ -118,4 +124,46 @@ def answers_lists():
     for marks in [("a", "b"), ABC, ("a", "ab", "b")]:
         for yeses, many in [(0, 1), (1, 1), (1, 2), (2, 2), (2, 3), (3, 4), (4, 2), (1, 6)]:
             drawn.append((marks, some_rows(chance, marks, yeses), [some_thing(chance, marks) for _ in range(many)]))
+    return drawn
+
+
+def closed_by(theory):
+    """The list of the closed lots of a theory, in order."""
+    return [lot for lot in lots_within(theory.marks) if closing_by(theory, lot) == lot]
+
+
+def least_among(lots):
+    return [one for one in lots if not any(set(other) < set(one) for other in lots)]
+
+
+def narrow_by_words(theory):
+    """The list of the tuples of a narrow lot and its one next lot, in order."""
+    return narrow_among(tuple(closed_by(theory)))
+
+
+@lru_cache(maxsize=None)
+def narrow_among(closed):
+    above = [(lot, least_among([other for other in closed if set(lot) < set(other)])) for lot in closed]
+    return [(lot, least[0]) for lot, least in above if len(least) == 1]
+
+
+def some_truth(chance, theory, yeses, many):
+    """Rows that follow from a theory, and things that it does not bar."""
+    aheads = [some_lot(chance, theory.marks) for _ in range(yeses)]
+    things = []
+    for _ in range(many):
+        lot = chance.choice(closed_by(theory))
+        has = tuple(mark for mark in lot if chance.random() < 0.7)
+        things.append((has, tuple(mark for mark in theory.marks if mark not in lot and chance.random() < 0.7)))
+    return [(ahead, some_lot(chance, closing_by(theory, ahead))) for ahead in aheads], things
+
+
+def clash_lists():
+    """Triples of marks, rows and things that often do not stand, drawn once for all."""
+    chance = random.Random(70)
+    drawn = [triple for triple in answers_lists() if len(triple[1]) < 5]
+    for marks in [("a", "b"), ABC, ABCD]:
+        for yeses, many in [(2, 1), (3, 2), (4, 2), (5, 3), (6, 4), (4, 5)]:
+            rows = [((chance.choice(marks),), (chance.choice(marks),)) for _ in range(yeses)]
+            drawn.append((marks, rows, [some_thing(chance, marks) for _ in range(many)]))
     return drawn

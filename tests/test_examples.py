@@ -77,6 +77,42 @@ OF_53 = """
 [('c', 'd'), True, False, True]
 """
 
+OF_62 = """
+>>> from thesesothose.rules import Rules
+>>> from thesesothose.answers import Answers
+>>> from thesesothose.asking import asked, next_question, put_all
+>>> from thesesothose.experts import Expert
+>>> from thesesothose.wanting import missing, questions, tellings, unshown
+>>> none_told = Answers(Rules(("a", "b", "c"), []), [])
+>>> theory = Rules(("a", "b", "c"), [(("a",), ("b",))])
+>>> [unshown(none_told, theory), missing(none_told, theory)]
+[[('c',), ('a', 'b'), ('b', 'c')], 4]
+>>> questions(none_told, theory)
+[(('a',), ('b',)), (('c',), ('b',)), (('a', 'b'), ('c',)), (('b', 'c'), ('a',))]
+>>> tellings(theory, ("a", "b"))
+[(('a',), ('c',))]
+>>> [next_question(none_told), Expert(theory, "least")(((), ("a", "b", "c")))]
+[((), ('a', 'b', 'c')), ((), ('a',))]
+>>> found, log = asked(none_told, Expert(theory, "first"))
+>>> [[rule for rule, answer in log if answer is None], found.yeses.rows(), missing(found, theory)]
+[[(('a',), ('b',))], [(('a',), ('b',))], 0]
+>>> [len(put_all(none_told, Expert(theory, "part"), questions(none_told, theory))[0].opens()), len(log) > 4]
+[0, True]
+"""
+
+OF_71 = """
+>>> from thesesothose.rules import Rules
+>>> from thesesothose.answers import Answers
+>>> from thesesothose.blame import clashes, maybe_wrong, repairs, surely_wrong, wrong_things
+>>> from thesesothose.parts import can_be_one, crowd, fewest_lots, greatest_ones
+>>> bad = Answers(Rules(("a", "b", "c"), [(("a",), ("b",)), (("b",), ("c",))]), [(("a",), ("c",))])
+>>> [clashes(bad), repairs(bad), surely_wrong(bad), maybe_wrong(bad), wrong_things(bad)]
+[[(0, 1)], [(0,), (1,)], [], [0, 1], [0]]
+>>> few = Answers(Rules(("a", "b", "c", "d"), [(("a", "b", "c"), ("d",))]), [(("a",), ("d",)), (("b",), ()), (("c",), ())])
+>>> [can_be_one(few, [0, 1]), can_be_one(few, [0, 1, 2]), greatest_ones(few), fewest_lots(few), len(crowd(few))]
+[True, False, [(0, 1), (0, 2), (1, 2)], 2, 1]
+"""
+
 
 class TestExamples(unittest.TestCase):
 
@@ -102,6 +138,12 @@ class TestExamples(unittest.TestCase):
 
     def test_of_53(self):
         self.shown(OF_53)
+
+    def test_of_62(self):
+        self.shown(OF_62)
+
+    def test_of_71(self):
+        self.shown(OF_71)
 
 
 if __name__ == "__main__":
