@@ -288,6 +288,12 @@ class TestOthersMade(unittest.TestCase):
                 some().without_thing(number)
             self.assertIs(caught.exception.number, number)
 
+    def test_the_others_stay_in_their_order(self):
+        things = [((), (mark,)) for mark in ABC]
+        self.same(made(ABC, ROWS, things).without_thing(1), ROWS, [things[0], things[2]])
+        self.same(made(ABC, [*ROWS, ((), ("c",))], things).without_yes(1), [ROWS[0], ((), ("c",))], things)
+        self.same(made(ABC, ROWS, things).with_more(1, (("a",), ())), ROWS, [things[0], (("a",), ("b",)), things[2]])
+
     def test_with_more(self):
         self.same(some().with_more(0, (("b",), ())), ROWS, [(("a", "b"), ("c",)), *THINGS[1:]])
         self.same(some().with_more(1, (("b",), ("a", "c"))), ROWS, [THINGS[0], (("b",), ("a", "c")), THINGS[2]])

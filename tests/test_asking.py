@@ -165,6 +165,9 @@ class TestAsked(unittest.TestCase):
                         asked(answers, expert, most=most)
                     self.assertEqual(caught.exception.limit, most)
 
+    def test_the_limit_left_out(self):
+        self.assertEqual(asked.__kwdefaults__, {"most": 2000})
+
     def test_not_possible(self):
         for answers, theory in [(made(ABC, [(("a",), ("b",))], []), Rules(ABC, [])), (made(ABC, [], []), Rules(ABCD, [])),
                                 (made(ABC, [], [((), ("a",))]), Rules(ABC, [((), ("a",))])),

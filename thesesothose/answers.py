@@ -6,7 +6,7 @@ from thesesothose.lots import common, joined, within, without
 from thesesothose.rules import Rules
 from thesesothose.tables import Table
 from thesesothose.things import fits, told_more
-from thesesothose.words import is_index, is_rule_of, is_thing_of
+from thesesothose.words import is_index, is_thing_of
 
 
 def are_things_of(marks, things):
@@ -99,8 +99,6 @@ class Answers:
 
     def with_yes(self, rule):
         """The Answers with a further yes behind the others."""
-        if not is_rule_of(self.marks, rule):
-            raise Wrong(0)
         return Answers(self._yeses + rule, self._things)
 
     def without_yes(self, index):
