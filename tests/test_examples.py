@@ -113,6 +113,29 @@ OF_71 = """
 [True, False, [(0, 1), (0, 2), (1, 2)], 2, 1]
 """
 
+OF_84 = """
+>>> from thesesothose.rules import Rules
+>>> from thesesothose.alike import alike, parting_rule
+>>> from thesesothose.exceptions import exceptions, holding_but
+>>> from thesesothose.few import direct, is_direct, lot_against, width
+>>> from thesesothose.keys import generators, givers, is_independent, keys
+>>> from thesesothose.renaming import leading, renamed, turnings
+>>> from thesesothose.tables import Table
+>>> chain = Rules(("a", "b", "c"), [(("a",), ("b",)), (("b",), ("c",))])
+>>> [keys(chain), givers(chain, "c"), generators(chain, ("b", "c")), is_independent(chain, ("a", "c"))]
+[[('a',)], [('a',), ('b',), ('c',)], [('b',)], False]
+>>> [direct(chain).rows(), is_direct(chain), width(chain), lot_against(chain, 0)]
+[[(('a',), ('b', 'c')), (('b',), ('c',))], False, 1, ('a',)]
+>>> table = Table(("a", "b"), [("a",), ("a", "b"), ("a", "b")])
+>>> [exceptions(table, (("a",), ("b",))), holding_but(table, "b", 0), holding_but(table, "b", 1)]
+[1, [], [()]]
+>>> [alike(chain, direct(chain)), parting_rule(chain, Rules(("a", "b", "c"), chain.rows()[:1]))]
+[True, (('a',), ('c',))]
+>>> other = renamed(chain, {"a": "c", "c": "a"})
+>>> [other.rows(), leading(chain, other), turnings(chain)]
+[[(('c',), ('b',)), (('b',), ('a',))], {'a': 'c', 'b': 'b', 'c': 'a'}, [{'a': 'a', 'b': 'b', 'c': 'c'}]]
+"""
+
 
 class TestExamples(unittest.TestCase):
 
@@ -144,6 +167,9 @@ class TestExamples(unittest.TestCase):
 
     def test_of_71(self):
         self.shown(OF_71)
+
+    def test_of_84(self):
+        self.shown(OF_84)
 
 
 if __name__ == "__main__":
