@@ -136,6 +136,16 @@ OF_84 = """
 [[(('c',), ('b',)), (('b',), ('a',))], {'a': 'c', 'b': 'b', 'c': 'a'}, [{'a': 'a', 'b': 'b', 'c': 'c'}]]
 """
 
+OF_94 = """
+>>> from thesesothose.book import Book
+>>> from thesesothose.desk import Desk
+>>> desk = Desk(("a", "b", "c"))
+>>> [desk.say(line) for line in ["next", "no . > a b c : a b / c", "next", "yes a > b", "why a > b", "why b > c", "open"]]
+['. > a b c', '0 yes, 1 things', '. > a b', '1 yes, 1 things', 'sure by 0', 'refuted by 0: at once; to c at once', '6']
+>>> [desk.say("list"), desk.say("past 1"), desk.book().cause(("yes", (("b",), ("c",)))), desk.say("undo")]
+['a > b', 'marks a b c; thing a b / c', (0, 'c', [1]), 'yes a > b']
+"""
+
 
 class TestExamples(unittest.TestCase):
 
@@ -170,6 +180,9 @@ class TestExamples(unittest.TestCase):
 
     def test_of_84(self):
         self.shown(OF_84)
+
+    def test_of_94(self):
+        self.shown(OF_94)
 
 
 if __name__ == "__main__":

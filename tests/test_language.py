@@ -158,6 +158,20 @@ class TestLanguage(unittest.TestCase):
                 walked = with_other_names(names_in(loop.iter), function)
                 self.assertEqual(walked & changed_in(loop.body), set(), f"{name} {loop.lineno}")
 
+    def test_a_finally_only_puts_names_back(self):  # L6
+        for name, node in nodes(ast.Try):
+            for row in node.finalbody:
+                self.assertIsInstance(row, ast.Assign, name)
+                kinds = {type(part) for part in ast.walk(row)}
+                self.assertLessEqual(kinds, {ast.Assign, ast.Tuple, ast.Name, ast.Attribute, ast.Load, ast.Store}, name)
+
+    def test_what_is_caught_and_raised(self):  # L19
+        own = [node.name for name, node in nodes(ast.ClassDef) if name == "errors.py"]
+        for name, node in nodes(ast.ExceptHandler):
+            self.assertIn(getattr(node.type, "id", None), own, name)
+        for name, node in nodes(ast.Raise):
+            self.assertIn(getattr(getattr(node.exc, "func", None), "id", None), own, name)
+
     def test_names_are_bound_once(self):  # L15, L18
         for _, node in nodes((ast.Module, ast.ClassDef)):
             names = [part.name for part in node.body if hasattr(part, "name")]

@@ -42,12 +42,17 @@ def thing_at(answers, number):
     return things[number]
 
 
+def is_against(theory, rule, thing):
+    """Whether a theory leads a thing to all that stands ahead in a rule, and from there to a mark that it lacks."""
+    ahead, behind = rule
+    has, lacks = thing
+    return within(ahead, theory.closing(has)) and leads_to_lacked(theory, joined(has, behind), lacks)
+
+
 def refuted_by(answers, rule):
     """The number of the first thing that a rule, with the yeses, leads to a mark that it lacks, or None."""
-    ahead, behind = rule
-    yeses = answers.yeses
-    for number, (has, lacks) in enumerate(answers.things()):
-        if within(ahead, yeses.closing(has)) and leads_to_lacked(yeses, joined(has, behind), lacks):
+    for number, thing in enumerate(answers.things()):
+        if is_against(answers.yeses, rule, thing):
             return number
     return None
 
