@@ -181,6 +181,8 @@ class TestOthersMade(unittest.TestCase):
         self.assertEqual([rules.without(0).rows(), rules.without(1).rows()], [ROWS[1:], ROWS[:1]])
         self.assertEqual([rules.rows(), rules.without(0).marks], [ROWS, ABC])
         self.assertEqual(Rules(ABC, [ROWS[0], ROWS[1], ROWS[0]]).without(2).rows(), ROWS)
+        three = [*ROWS, ((), ("c",))]
+        self.assertEqual([Rules(ABC, three).without(index).rows() for index in range(3)], [three[1:], three[::2], three[:2]])
         self.assertEqual(rules.without(0)(("a",)), ("a",))
 
     def test_without_no_row(self):

@@ -29,48 +29,59 @@ def rule_told(book, text):
 
 
 def in_one_line(answers):
+    """The text of answers, all in one line."""
     return show_answers(answers).replace("\n", "; ")
 
 
 def rows_shown(indexes):
+    """The text of a list of indexes of rows."""
     return " ".join([str(index) for index in indexes]) if indexes else "at once"
 
 
 def lots_shown(table):
+    """The text of the lots of a table."""
     return ", ".join([show_lot(lot) for lot in table])
 
 
 def say_undo(book):
+    """Takes back an entry, and tells which."""
     return show_entry(book.undo())
 
 
 def say_redo(book):
+    """Does an entry again, and tells which."""
     return show_entry(book.redo())
 
 
 def say_next(book):
+    """The next question."""
     rule = next_question(book.answers)
     return NOTHING if rule is None else show_rule(rule)
 
 
 def say_list(book):
+    """The least list of the yeses."""
     rows = least_list(book.answers.yeses).rows()
     return "; ".join([show_rule(row) for row in rows]) if rows else NOTHING
 
 
 def say_how_many_open(book):
+    """How many rules with one mark behind are open."""
     return str(len(book.answers.opens()))
 
 
 def say_answers(book):
+    """The answers as they are."""
     return in_one_line(book.answers)
 
 
 def say_word(book, text):
+    """Whether a rule is sure, refuted or open."""
     return book[rule_told(book, text)]
 
 
 def say_why(book, text):
+    """What shows that a rule is so."""
     found = paper(book.answers, rule_told(book, text))
     if found[0] == "sure":
         return f"sure by {rows_shown(found[1])}"
@@ -81,6 +92,7 @@ def say_why(book, text):
 
 
 def say_closing(book, text):
+    """What the yeses lead a lot to."""
     lot = told(read_lot, text)
     if not is_lot_of(book.marks, lot):
         raise NoCommand()
@@ -88,10 +100,12 @@ def say_closing(book, text):
 
 
 def say_past(book, text):
+    """The answers as they were behind some entries."""
     return in_one_line(book.past(told(read_number, text)))
 
 
 def say_entry(book, text):
+    """Does an entry, and tells how many yeses and things there are behind it."""
     entry = told(read_entry, text)
     if not is_entry(book.marks, entry):
         raise NoCommand()
