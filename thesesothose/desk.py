@@ -66,7 +66,7 @@ def say_list(book):
 
 
 def say_how_many_open(book):
-    """How many rules with one mark behind are open."""
+    """The number of all that `opens` lists."""
     return str(len(book.answers.opens()))
 
 
